@@ -1,0 +1,1 @@
+"""Swingposts: walkers on a line of posts that swing."""
