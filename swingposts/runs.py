@@ -1,4 +1,4 @@
-"""Runs of posts: how they are joined, and what they are when some posts have swung."""
+"""Runs of posts: how they are joined, mirrored, and what they are when some posts have swung."""
 
 
 def join_runs(pieces):
@@ -14,9 +14,19 @@ def join_runs(pieces):
     return tuple(runs)
 
 
+def other_side(side):
+    """Return the side to which a post with this side swings."""
+    return "R" if side == "L" else "L"
+
+
+def mirrored(posts):
+    """Return the posts as they are seen from behind the line, where left is right and the last place is the first."""
+    return tuple([(other_side(side), count) for side, count in posts[::-1]])
+
+
 def swing_first(posts, side, many):
     """Return the posts when the first so many posts with this side have swung to the other side."""
-    other = "R" if side == "L" else "L"
+    other = other_side(side)
     pieces = []
     rest = many
     for run_side, count in posts:

@@ -5,6 +5,15 @@ import itertools
 import signal
 import unittest
 
+from swingposts.errors import PostError
+from swingposts.posts import count_right, line_length
+
+# Two lines with 20 runs; longer by TIMES, their counts have 33 digits.
+TIMES = 3 * 10 ** 32
+COUNTS = (1, 3, 2, 1, 1, 2, 3, 1, 2, 2, 1, 3, 1, 1, 2, 1, 3, 2, 1, 2)
+SHORT = tuple(("LR"[at & 1], count) for at, count in enumerate(COUNTS))
+MIRRORED = tuple(("RL"[at & 1], count) for at, count in enumerate(COUNTS))
+
 
 def to_posts(text):
     """The posts that a text of single sides such as "LRL" stands for."""
@@ -36,6 +45,49 @@ def walk(text, place):
 
 def walk_end(text, place):
     return "L" if walk(text, place)[0][-1] == 0 else "R"
+
+
+def all_walks(longest):
+    """All small lines from all places."""
+    for text in small_lines(longest):
+        for place in range(1, len(text) + 1):
+            yield text, place
+
+
+def text_is_settled(text):
+    return "LR" not in text
+
+
+def let_walk(text, places):
+    """The text after walkers from these places, one after another, the ends at which they left and all their steps."""
+    ends, steps = [], 0
+    for place in places:
+        path, text = walk(text, place)
+        ends.append("L" if path[-1] == 0 else "R")
+        steps += len(path) - 1
+    return text, ends, steps
+
+
+def longer(posts, times):
+    """The posts whose runs are so many times as long."""
+    return tuple((side, count * times) for side, count in posts)
+
+
+def at_times(values, times):
+    """The value at `times` of the polynomial of degree 2 with these values at 1, 2 and 3."""
+    first, second, third = values
+    past = times - 1
+    return first + past * (second - first) + past * (past - 1) // 2 * (third - 2 * second + first)
+
+
+def scaled_walks(posts):
+    """Places by k for which the walk in the line with runs k times as long is the short line's, stretched."""
+    length, right = line_length(posts), count_right(posts)
+    for place in range(1, length):
+        if right + place < length:
+            yield lambda times, place=place: place * times
+        else:
+            yield lambda times, place=place: (place - 1) * times + 1
 
 
 @contextlib.contextmanager
@@ -70,3 +122,4 @@ class ErrorCase(unittest.TestCase):
         with self.assertRaises(Exception) as caught:
             function(*args, **kwargs)
         self.assertIs(type(caught.exception), kind, (function.__name__, args, kwargs))
+        self.assertEqual(kind.__mro__[1:3], (PostError, ValueError))

@@ -20,6 +20,27 @@ FUNCTIONS = {
         "walked": "(posts, *places)",
         "named_ends": "(posts, **walkers)",
     },
+    "paths": {
+        "path": "(posts, place)",
+        "place_after": "(posts, place, steps)",
+        "count_visits": "(posts, place, post)",
+        "farthest": "(posts, place)",
+    },
+    "crowds": {
+        "after_crowd": "(posts, crowd)",
+        "crowd_steps": "(posts, crowd)",
+    },
+    "streams": {
+        "nth_exit": "(posts, place, index)",
+        "nth_leaver": "(posts, place, end, index)",
+        "is_settled": "(posts)",
+        "walkers_to_settle": "(posts, place)",
+        "period": "(posts, place)",
+    },
+    "lengths": {
+        "step_range": "(length, right, place)",
+        "posts_with_steps": "(length, right, place, steps)",
+    },
 }
 
 
@@ -33,6 +54,9 @@ class Interface(unittest.TestCase):
                 self.assertTrue(inspect.isfunction(function), name)
                 self.assertEqual(function.__module__, f"swingposts.{file}")
                 self.assertEqual(str(inspect.signature(function)), arguments, name)
+
+    def test_path_is_a_generator(self):
+        self.assertTrue(inspect.isgeneratorfunction(importlib.import_module("swingposts.paths").path))
 
 
 if __name__ == "__main__":

@@ -99,6 +99,26 @@ class Language(unittest.TestCase):
             self.assertLessEqual(read & set(dir(builtins)), BUILTINS, file)
             self.assertLessEqual(imported, read, file)
 
+    def test_library_names_are_only_called(self):
+        for file, text, tree in self.each_file():
+            borrowed = {alias.name for node in imports_in(tree) if node.module in LIBRARY for alias in node.names}
+            calls = [node for node in ast.walk(tree) if isinstance(node, ast.Call)]
+            called = {id(call.func) for call in calls if not call.keywords}
+            for node in ast.walk(tree):
+                if isinstance(node, ast.Name) and node.id in borrowed:
+                    self.assertIn(id(node), called, (file, node.lineno))
+
+    def test_generators_are_iterated_where_they_are_called(self):
+        names = {function.name for file, text, tree in self.each_file() for function in functions_in(tree)
+                 if any(isinstance(node, (ast.Yield, ast.YieldFrom)) for node in ast.walk(function))}
+        self.assertIn("path", names)
+        for file, text, tree in self.each_file():
+            heads = {id(node.iter.func) for node in ast.walk(tree)
+                     if isinstance(node, ast.For) and isinstance(node.iter, ast.Call)}
+            for node in ast.walk(tree):
+                if isinstance(node, ast.Name) and node.id in names:
+                    self.assertIn(id(node), heads, (file, node.lineno))
+
     def test_no_statement_or_value_from_outside_the_language(self):
         for file, text, tree in self.each_file():
             for node in ast.walk(tree):

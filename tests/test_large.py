@@ -10,33 +10,9 @@ from swingposts.errors import InvalidPlace
 from swingposts.posts import count_right, is_posts, line_length, place_of, side_at, sum_right
 from swingposts.walks import count_steps, exit_end, named_ends, posts_after, walked
 
-from tests.helpers import ErrorCase, time_limit, to_posts, to_text, walk, walk_end
-
-TIMES = 3 * 10 ** 32
-COUNTS = (1, 3, 2, 1, 1, 2, 3, 1, 2, 2, 1, 3, 1, 1, 2, 1, 3, 2, 1, 2)
-SHORT = tuple(("LR"[at & 1], count) for at, count in enumerate(COUNTS))
-MIRRORED = tuple(("RL"[at & 1], count) for at, count in enumerate(COUNTS))
-
-
-def longer(posts, times):
-    return tuple((side, count * times) for side, count in posts)
-
-
-def at_times(values, times):
-    """The value at `times` of the polynomial of degree 2 with these values at 1, 2 and 3."""
-    first, second, third = values
-    past = times - 1
-    return first + past * (second - first) + past * (past - 1) // 2 * (third - 2 * second + first)
-
-
-def scaled_walks(posts):
-    """Places by k for which the walk in the line with runs k times as long is the short line's, stretched."""
-    length, right = line_length(posts), count_right(posts)
-    for place in range(1, length):
-        if right + place < length:
-            yield lambda times, place=place: place * times
-        else:
-            yield lambda times, place=place: (place - 1) * times + 1
+from tests.helpers import (
+    MIRRORED, SHORT, TIMES, ErrorCase, at_times, longer, scaled_walks, time_limit, to_posts, to_text, walk, walk_end,
+)
 
 
 class LongLines(ErrorCase):

@@ -7,14 +7,8 @@ from swingposts.errors import InvalidPlace, InvalidPosts
 from swingposts.posts import count_right, is_posts, line_length, sum_right
 from swingposts.walks import count_steps, exit_end, named_ends, posts_after, walked
 
-from tests.helpers import ErrorCase, small_lines, to_posts, to_text, walk, walk_end
+from tests.helpers import ErrorCase, all_walks, small_lines, to_posts, to_text, walk, walk_end
 from tests.test_posts import LRL, NO_PLACES, NO_POSTS
-
-
-def all_walks(longest):
-    for text in small_lines(longest):
-        for place in range(1, len(text) + 1):
-            yield text, place
 
 
 class StepByStep(unittest.TestCase):
