@@ -1,7 +1,7 @@
 """Lengths of walks: which numbers of steps occur, and with which posts."""
 
-from swingposts.errors import InvalidNumber, InvalidPlace
-from swingposts.posts import check_index, is_integer
+from swingposts.errors import InvalidNumber
+from swingposts.posts import check_index, check_place_on, is_integer
 from swingposts.runs import join_runs, mirrored
 
 
@@ -16,8 +16,7 @@ def check_start(length, right, place):
     check_length(length)
     if not is_integer(right) or right < 0 or right >= length:
         raise InvalidNumber()
-    if not is_integer(place) or place < 1 or place >= length:
-        raise InvalidPlace()
+    check_place_on(length, place)
 
 
 def step_range(length, right, place):

@@ -1,6 +1,6 @@
 """Posts: what they are, how many there are, and where they stand and point."""
 
-from swingposts.errors import InvalidNumber, InvalidPlace, InvalidPosts, InvalidSide
+from swingposts.errors import InvalidNumber, InvalidPlace, InvalidPosts, InvalidSide, OtherLength
 
 
 def is_integer(value):
@@ -38,11 +38,22 @@ def check_posts(posts):
         raise InvalidPosts()
 
 
-def check_place(posts, place):
-    """Raise InvalidPosts for anything but posts, then InvalidPlace for anything but a place of one of them."""
-    length = line_length(posts)
+def check_place_on(length, place):
+    """Raise InvalidPlace for anything but the place of a post on a line of this length."""
     if not is_integer(place) or place < 1 or place >= length:
         raise InvalidPlace()
+
+
+def check_place(posts, place):
+    """Raise InvalidPosts for anything but posts, then InvalidPlace for anything but a place of one of them."""
+    check_place_on(line_length(posts), place)
+
+
+def check_both(posts, other):
+    """Raise InvalidPosts for the first value that is not posts, then OtherLength if the lines differ in length."""
+    length = line_length(posts)
+    if line_length(other) != length:
+        raise OtherLength()
 
 
 def check_side(side):

@@ -1,4 +1,4 @@
-"""Runs of posts: how they are joined, mirrored, and what they are when some posts have swung."""
+"""Runs of posts: how they are joined, mirrored and compared, and what they are when some posts have swung."""
 
 
 def join_runs(pieces):
@@ -40,3 +40,22 @@ def swing_first(posts, side, many):
 def swing_last(posts, side, many):
     """Return the posts when the last so many posts with this side have swung to the other side."""
     return swing_first(posts[::-1], side, many)[::-1]
+
+
+def side_by_side(posts, goal):
+    """Return two lines of the same length in pieces (first place, count, side, goal side), one after another."""
+    pieces = []
+    first = 1
+    rest = list(posts[::-1])
+    goal_rest = list(goal[::-1])
+    while rest:
+        side, count = rest.pop()
+        goal_side, goal_count = goal_rest.pop()
+        many = min(count, goal_count)
+        pieces.append((first, many, side, goal_side))
+        first += many
+        if count > many:
+            rest.append((side, count - many))
+        if goal_count > many:
+            goal_rest.append((goal_side, goal_count - many))
+    return pieces

@@ -54,6 +54,44 @@ def all_walks(longest):
             yield text, place
 
 
+def texts_of(many):
+    """All texts of single sides with so many posts, in ascending order."""
+    return ["".join(sides) for sides in itertools.product("LR", repeat=many)]
+
+
+def mirror_text(text):
+    """The text as it is seen from behind the line."""
+    return "".join("R" if side == "L" else "L" for side in reversed(text))
+
+
+def mirror_posts(posts):
+    """The posts as they are seen from behind the line."""
+    return tuple(("R" if side == "L" else "L", count) for side, count in reversed(posts))
+
+
+def mirror_end(end):
+    return {"L": "R", "R": "L", None: None}[end]
+
+
+def search(text):
+    """All texts that walkers can make of the text, each with the smallest number of walkers that it needs."""
+    walkers = {text: 0}
+    waiting = [text]
+    for now in waiting:
+        for place in range(1, len(now) + 1):
+            after = walk(now, place)[1]
+            if after not in walkers:
+                walkers[after] = walkers[now] + 1
+                waiting.append(after)
+    return walkers
+
+
+def swung(text, other):
+    """The numbers of posts that have swung to the right and to the left."""
+    sides = list(zip(text, other))
+    return sides.count(("L", "R")), sides.count(("R", "L"))
+
+
 def text_is_settled(text):
     return "LR" not in text
 

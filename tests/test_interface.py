@@ -41,6 +41,25 @@ FUNCTIONS = {
         "step_range": "(length, right, place)",
         "posts_with_steps": "(length, right, place, steps)",
     },
+    "exits": {
+        "possible_rights": "(length, seen)",
+        "contradiction": "(length, seen)",
+        "next_end": "(length, seen, place)",
+    },
+    "reaching": {
+        "can_become": "(posts, goal)",
+        "walkers_to": "(posts, goal)",
+        "why_not_become": "(posts, goal)",
+        "count_reachable": "(posts)",
+        "nth_reachable": "(posts, index)",
+        "reachable": "(posts)",
+    },
+    "before": {
+        "can_be_before": "(posts, place)",
+        "count_before": "(posts, place)",
+        "count_all_before": "(posts)",
+        "nth_before": "(posts, place, index)",
+    },
 }
 
 
@@ -55,8 +74,10 @@ class Interface(unittest.TestCase):
                 self.assertEqual(function.__module__, f"swingposts.{file}")
                 self.assertEqual(str(inspect.signature(function)), arguments, name)
 
-    def test_path_is_a_generator(self):
-        self.assertTrue(inspect.isgeneratorfunction(importlib.import_module("swingposts.paths").path))
+    def test_generators(self):
+        for file, name in (("paths", "path"), ("reaching", "reachable")):
+            function = getattr(importlib.import_module(f"swingposts.{file}"), name)
+            self.assertTrue(inspect.isgeneratorfunction(function), name)
 
 
 if __name__ == "__main__":
