@@ -5,25 +5,23 @@ from swingposts.posts import count_right, is_integer, line_length, sum_right
 from swingposts.settling import swing_both
 
 
-def is_entry(value, length):
-    """Return whether any value is an entry of a crowd for a line of this length."""
+def is_entry(value):
+    """Return whether any value is a place and a number of walkers, for a line that is long enough."""
     if not isinstance(value, tuple) or len(value) != 2:
         return False
     place, count = value
-    if not is_integer(place) or not is_integer(count):
-        return False
-    return place >= 1 and place < length and count >= 0
+    return is_integer(place) and place >= 1 and is_integer(count) and count >= 0
 
 
-def is_crowd(value, length):
-    """Return whether any value is a crowd for a line of this length."""
-    return isinstance(value, list) and all([is_entry(entry, length) for entry in value])
+def is_crowd(value):
+    """Return whether any value is a crowd, for a line that is long enough."""
+    return isinstance(value, list) and all([is_entry(entry) for entry in value])
 
 
 def check_crowd(posts, crowd):
     """Raise InvalidPosts for anything but posts, then InvalidCrowd for anything but a crowd for their line."""
     length = line_length(posts)
-    if not is_crowd(crowd, length):
+    if not is_crowd(crowd) or any([place >= length for place, count in crowd]):
         raise InvalidCrowd()
 
 

@@ -8,7 +8,7 @@ class Examples(unittest.TestCase):
 
     def test_document(self):
         result = doctest.testfile("doc_examples.txt")
-        self.assertEqual((result.failed, result.attempted), (0, 66))
+        self.assertEqual((result.failed, result.attempted), (0, 84))
 
     def test_readme(self):
         result = doctest.testfile("../README.md")

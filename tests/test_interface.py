@@ -60,6 +60,39 @@ FUNCTIONS = {
         "count_all_before": "(posts)",
         "nth_before": "(posts, place, index)",
     },
+    "pairs": {
+        "same_exits": "(posts, other)",
+        "equal_after": "(posts, other, crowd)",
+        "place_to_merge": "(posts, other)",
+    },
+    "texts": {
+        "format_posts": "(posts)",
+        "format_crowd": "(crowd)",
+        "format_exits": "(seen)",
+        "parse_posts": "(text)",
+        "parse_crowd": "(text)",
+        "parse_exits": "(text)",
+    },
+}
+
+
+CLASSES = {
+    "live": {
+        "LiveLine": {
+            "__init__": "(self, posts)",
+            "walk": "(self, place)",
+            "undo": "(self)",
+            "try_walks": "(self, *places)",
+            "told": "(self)",
+            "begin": "(self, posts)",
+            "__len__": "(self)",
+        },
+    },
+    "kinds": {
+        "LimitedLine": {"__init__": "(self, posts, limit=10)", "told": "(self)"},
+        "TollLine": {"__init__": "(self, posts, toll=1)", "told": "(self)"},
+        "LimitedTollLine": {"__init__": "(self, posts, limit=10, toll=1)", "told": "(self)"},
+    },
 }
 
 
@@ -73,6 +106,27 @@ class Interface(unittest.TestCase):
                 self.assertTrue(inspect.isfunction(function), name)
                 self.assertEqual(function.__module__, f"swingposts.{file}")
                 self.assertEqual(str(inspect.signature(function)), arguments, name)
+
+    def test_classes(self):
+        for file, classes in CLASSES.items():
+            module = importlib.import_module(f"swingposts.{file}")
+            for name, methods in classes.items():
+                kind = getattr(module, name)
+                self.assertTrue(inspect.isclass(kind), name)
+                self.assertEqual(kind.__module__, f"swingposts.{file}")
+                for method, arguments in methods.items():
+                    self.assertEqual(str(inspect.signature(vars(kind)[method])), arguments, (name, method))
+
+    def test_other_names_of_classes(self):
+        live = vars(importlib.import_module("swingposts.live").LiveLine)
+        for name in ("now", "right_now", "steps_made", "ends_seen"):
+            self.assertIsInstance(live[name], property)
+        self.assertIsInstance(vars(importlib.import_module("swingposts.kinds").TollLine)["due"], property)
+        self.assertEqual(live["ENDS"], ("L", "R"))
+        self.assertIsInstance(live["read"], classmethod)
+        self.assertEqual(str(inspect.signature(live["read"].__func__)), "(cls, text)")
+        self.assertIsInstance(live["is_valid"], staticmethod)
+        self.assertEqual(str(inspect.signature(live["is_valid"].__func__)), "(value)")
 
     def test_generators(self):
         for file, name in (("paths", "path"), ("reaching", "reachable")):

@@ -15,6 +15,12 @@ BUILTINS = set(
     " ArithmeticError OverflowError RuntimeError NotImplementedError AttributeError StopIteration NotImplemented"
     " iter next map super property staticmethod classmethod type getattr hasattr setattr".split()
 )
+BARRED = set(
+    "register mro elements open input law version_info with_traceback add_note attrgetter breakpoint builtins compile"
+    " copyright credits delattr dir eval exec exit gc globals help id importlib license locals methodcaller os quit"
+    " vars sys".split()
+)
+DOUBLE = {"__init__", "__len__"}
 LIBRARY = {"heapq", "math", "itertools", "collections"}
 ANYWHERE = (ast.Import, ast.AsyncFunctionDef, ast.Await, ast.Div)
 
@@ -93,10 +99,13 @@ class Language(unittest.TestCase):
         for file, text, tree in self.each_file():
             imported = {alias.name for node in imports_in(tree) for alias in node.names}
             bound = bound_names(tree)
-            self.assertEqual(bound & (set(dir(builtins)) - {"__doc__"}), set(), file)
+            # The examples leave their last value among the builtins, under the name that nobody reads.
+            self.assertEqual(bound & (set(dir(builtins)) - {"__doc__", "_"}), set(), file)
             self.assertEqual(bound & imported, set(), file)
-            read = {node.id for node in ast.walk(tree) if isinstance(node, ast.Name)}
+            read = {node.id for node in ast.walk(tree) if isinstance(node, ast.Name) and isinstance(node.ctx, ast.Load)}
             self.assertLessEqual(read & set(dir(builtins)), BUILTINS, file)
+            self.assertNotIn("_", read, file)
+            self.assertEqual((bound | read) & BARRED, set(), file)
             self.assertLessEqual(imported, read, file)
 
     def test_library_names_are_only_called(self):
@@ -118,6 +127,53 @@ class Language(unittest.TestCase):
             for node in ast.walk(tree):
                 if isinstance(node, ast.Name) and node.id in names:
                     self.assertIn(id(node), heads, (file, node.lineno))
+
+    def test_classes(self):
+        for file, text, tree in self.each_file():
+            for node in ast.walk(tree):
+                if isinstance(node, ast.ClassDef):
+                    names = [part.name for part in node.body if isinstance(part, ast.FunctionDef)]
+                    self.assertEqual(len(names), len(set(names)), node.name)
+                    self.assertLessEqual({name for name in names if name.startswith("__")}, DOUBLE)
+                if isinstance(node, ast.FunctionDef):
+                    decorators = [ast.unparse(decorator) for decorator in node.decorator_list]
+                    self.assertIn(decorators, ([], ["property"], ["classmethod"], ["staticmethod"]), node.name)
+
+    def test_super_is_only_used_to_call_a_method_of_the_same_name(self):
+        for file, text, tree in self.each_file():
+            found = 0
+            for function in functions_in(tree):
+                for node in ast.walk(function):
+                    if isinstance(node, ast.Call) and ast.unparse(node.func) == f"super().{function.name}":
+                        self.assertFalse(function.name.startswith("__"), file)
+                        found += 1
+            self.assertEqual(text.count("super"), found, file)
+
+    def test_no_name_is_a_method_and_an_attribute(self):
+        methods, attributes = set(), set()
+        for file, text, tree in self.each_file():
+            for kind in [node for node in tree.body if isinstance(node, ast.ClassDef)]:
+                methods |= {node.name for node in kind.body if isinstance(node, ast.FunctionDef)}
+            attributes |= {node.attr for node in ast.walk(tree)
+                           if isinstance(node, ast.Attribute) and isinstance(node.ctx, ast.Store)}
+        self.assertEqual(methods & attributes, set())
+
+    def test_strings_and_numbers(self):
+        for file, text, tree in self.each_file():
+            for node in ast.walk(tree):
+                if isinstance(node, ast.Constant) and isinstance(node.value, str):
+                    self.assertNotIn("%", node.value, file)
+                if isinstance(node, ast.BinOp) and isinstance(node.op, ast.Pow):
+                    self.assertIsInstance(node.right, ast.Constant, file)
+                    self.assertIn(node.right.value, range(65), file)
+
+    def test_errors_are_raised_by_the_name_of_their_class(self):
+        for file, text, tree in self.each_file():
+            for node in ast.walk(tree):
+                self.assertNotIsInstance(node, ast.Try, file)
+                if isinstance(node, ast.Raise):
+                    self.assertIsInstance(node.exc, ast.Call, file)
+                    self.assertIsInstance(node.exc.func, ast.Name, file)
 
     def test_no_statement_or_value_from_outside_the_language(self):
         for file, text, tree in self.each_file():

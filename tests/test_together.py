@@ -6,11 +6,15 @@ import unittest
 from swingposts.before import can_be_before, count_all_before, count_before, nth_before
 from swingposts.crowds import after_crowd, crowd_steps
 from swingposts.exits import contradiction, next_end, possible_rights
+from swingposts.kinds import LimitedLine, LimitedTollLine, TollLine
 from swingposts.lengths import posts_with_steps, step_range
+from swingposts.live import LiveLine
+from swingposts.pairs import equal_after, place_to_merge, same_exits
 from swingposts.paths import count_visits, farthest, path, place_after
 from swingposts.posts import count_right, line_length, place_of, side_at, sum_right
 from swingposts.reaching import can_become, count_reachable, nth_reachable, reachable, walkers_to, why_not_become
 from swingposts.streams import is_settled, nth_exit, nth_leaver, period, walkers_to_settle
+from swingposts.texts import format_crowd, format_exits, format_posts, parse_crowd, parse_exits, parse_posts
 from swingposts.walks import count_steps, exit_end, named_ends, posts_after, walked
 
 from tests.helpers import (
@@ -110,18 +114,51 @@ class OneWalk(ErrorCase):
                     self.assertEqual(one, len(walkers_to(posts, goal) or ()) == 1)
 
 
+    def test_pairs_and_live_lines(self):
+        for posts in some_lines():
+            for place in some_places(posts):
+                after, end, steps = posts_after(posts, place), exit_end(posts, place), count_steps(posts, place)
+                self.assertIs(same_exits(posts, after), False)
+                self.assertIsNone(place_to_merge(posts, after))
+                self.assertIs(equal_after(posts, after, [(place, 1)]), False)
+                for line in (LiveLine(posts), LimitedLine(posts, 1), TollLine(posts), LimitedTollLine(posts, 1, 3)):
+                    self.assertEqual(line.try_walks(place), [end])
+                    self.assertEqual(line.walk(place), end)
+                    self.assertEqual((line.now, line.steps_made, line.ends_seen), (after, steps, (end,)))
+                    self.assertEqual(line.right_now, count_right(after))
+                if line_length(posts) < 202:
+                    for index in {0, count_before(after, place) - 1}:
+                        before = nth_before(after, place, index)
+                        self.assertIs(same_exits(posts, before), True)
+                        self.assertIs(equal_after(posts, before, [(place, 1)]), True)
+                        self.assertLessEqual(place_to_merge(posts, before), place)
+
+    def test_texts(self):
+        for posts in some_lines():
+            self.assertEqual(parse_posts(format_posts(posts)), posts)
+            self.assertEqual(LiveLine.read(format_posts(posts)).now, posts)
+            for place in some_places(posts):
+                after = posts_after(posts, place)
+                self.assertEqual(posts_after(parse_posts(format_posts(posts)), place), parse_posts(format_posts(after)))
+                crowd, seen = [(place, 7), (1, 0)], [(place, exit_end(posts, place))]
+                self.assertEqual(after_crowd(posts, parse_crowd(format_crowd(crowd))), after_crowd(posts, crowd))
+                rights = possible_rights(line_length(posts), parse_exits(format_exits(seen)))
+                self.assertTrue(rights[0] <= count_right(posts) <= rights[1])
+
+
+def some_walkers(posts):
+    chance = random.Random(line_length(posts))
+    return [chance.randint(1, line_length(posts) - 1) for _ in range(8)]
+
+
 class ManyWalks(ErrorCase):
 
     def setUp(self):
         self.enterContext(time_limit(120))
 
-    def some_walkers(self, posts):
-        chance = random.Random(line_length(posts))
-        return [chance.randint(1, line_length(posts) - 1) for _ in range(8)]
-
     def test_crowds_exits_and_reaching(self):
         for posts in some_lines():
-            places = self.some_walkers(posts)
+            places = some_walkers(posts)
             after, ends = walked(posts, *places)
             crowd = [(place, 1) for place in sorted(places)]
             self.assertEqual(after_crowd(posts, crowd), (after, ends.count("L"), ends.count("R")))
@@ -133,6 +170,35 @@ class ManyWalks(ErrorCase):
             self.assertIsNone(contradiction(length, seen))
             for place in some_places(posts):
                 self.assertIn(next_end(length, seen, place), (None, exit_end(after, place)))
+
+    def test_live_lines(self):
+        for posts in some_lines():
+            places = some_walkers(posts)
+            line = LimitedTollLine(posts, limit=8, toll=2)
+            ends = line.try_walks(*places)
+            for many, place in enumerate(places):
+                seen = list(zip(places[:many], ends))
+                self.assertIn(next_end(line_length(posts), seen, place), (None, ends[many]))
+                self.assertEqual(line.walk(place), ends[many])
+            self.assertEqual((line.now, ends), walked(posts, *places))
+            self.assertEqual(line.due, 2 * crowd_steps(posts, [(place, 1) for place in places[::-1]]))
+            self.assertIs(can_become(posts, line.now), True)
+            goal, back = line.now, walkers_to(posts, line.now)
+            line.begin(posts)
+            for place in back:
+                line.walk(place)
+            self.assertEqual(line.now, goal)
+
+    def test_pairs(self):
+        for posts in some_lines():
+            for place in some_places(posts):
+                other = after_crowd(posts, [(place, 3), (1, 2)])[0]
+                self.assertIs(same_exits(posts, other), count_right(posts) == count_right(other))
+                merging = place_to_merge(posts, other)
+                self.assertEqual(merging is None, not same_exits(posts, other))
+                if merging is not None:
+                    self.assertEqual(LiveLine(posts).try_walks(merging, 1), LiveLine(other).try_walks(merging, 1))
+                    self.assertIs(equal_after(posts, other, [(merging, 1)]), True)
 
     def test_streams_and_reaching(self):
         for posts in some_lines():
@@ -197,6 +263,57 @@ class Mirrored(ErrorCase):
                 if is_settled(posts):
                     walkers, leaving, steps = period(posts, place)
                     self.assertEqual(period(behind, length - place), (walkers, walkers - leaving, steps))
+
+    def test_walkers_one_after_another(self):
+        for posts, behind in self.pairs():
+            length, places = line_length(posts), some_walkers(posts)
+            others = [length - place for place in places]
+            after, ends = walked(posts, *places)
+            mirrored_ends = [mirror_end(end) for end in ends]
+            self.assertEqual(walked(behind, *others), (mirror_posts(after), mirrored_ends))
+            names = {f"w{at}": place for at, place in enumerate(others)}
+            self.assertEqual(list(named_ends(behind, **names).values()), mirrored_ends)
+            line = LiveLine(behind)
+            self.assertEqual(line.try_walks(*others), mirrored_ends)
+            self.assertEqual([line.walk(place) for place in others], mirrored_ends)
+            self.assertEqual(line.now, mirror_posts(after))
+            seen, mirrored_seen = list(zip(places, ends)), list(zip(others, mirrored_ends))
+            least, greatest = possible_rights(length, seen)
+            expected = (length - 1 - greatest, length - 1 - least)
+            self.assertEqual(possible_rights(length, mirrored_seen), expected)
+            for place in some_places(posts):
+                end = next_end(length, seen, place)
+                self.assertEqual(next_end(length, mirrored_seen, length - place), mirror_end(end))
+            rest = [(place, mirror_end(end)) for place, end in seen]
+            mirrored_rest = [(length - place, mirror_end(end)) for place, end in rest]
+            self.assertEqual(contradiction(length, mirrored_rest), contradiction(length, rest))
+
+    def test_paths_and_lengths(self):
+        for posts, behind in self.pairs():
+            length, right = line_length(posts), count_right(posts)
+            for place in some_places(posts):
+                if length < 12:
+                    places = [length - at for at in path(posts, place)]
+                    self.assertEqual(list(path(behind, length - place)), places)
+                steps = count_steps(posts, place)
+                for wanted in (steps, steps + 1, steps + 2):
+                    found = posts_with_steps(length, right, place, wanted)
+                    other = posts_with_steps(length, length - 1 - right, length - place, wanted)
+                    self.assertEqual(found is None, other is None)
+                    if found is not None:
+                        self.assertEqual(count_steps(mirror_posts(found), length - place), wanted)
+
+    def test_pairs_of_lines(self):
+        for posts, behind in self.pairs():
+            length = line_length(posts)
+            for place in some_places(posts):
+                other = walked(posts, place, length - place)[0]
+                mirrored = mirror_posts(other)
+                self.assertIs(same_exits(behind, mirrored), same_exits(posts, other))
+                self.assertEqual(place_to_merge(behind, mirrored) is None, place_to_merge(posts, other) is None)
+                for count in (1, 5):
+                    expected = equal_after(posts, other, [(place, count)])
+                    self.assertIs(equal_after(behind, mirrored, [(length - place, count)]), expected)
 
     def test_reaching_and_before(self):
         for posts, behind in self.pairs():
