@@ -8,14 +8,14 @@ may be any of those posts, so each choice of so many of them is another line bef
 from math import comb
 
 from swingposts.errors import InvalidNumber, TooLarge
-from swingposts.posts import check_index, check_place, check_posts, line_length
+from swingposts.posts import check_index, check_place, line_length
 from swingposts.runs import join_runs
 
 LIMIT = 200
 
 
 def check_size(posts):
-    """Raise TooLarge for more posts than the limit."""
+    """Raise InvalidPosts for anything but posts, then TooLarge for more of them than the limit."""
     if line_length(posts) - 1 > LIMIT:
         raise TooLarge(LIMIT)
 
@@ -53,7 +53,6 @@ def count_before(posts, place):
 
 def count_all_before(posts):
     """Return the sum of the numbers of `count_before` over all places."""
-    check_posts(posts)
     check_size(posts)
     # The places choose each number of posts from 1 on, so each choice of some posts at an end counts once.
     return (1 << leading_right(posts)) + (1 << trailing_left(posts)) - 2

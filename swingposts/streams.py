@@ -24,14 +24,15 @@ def nth_leaver(posts, place, end, index):
     check_place(posts, place)
     check_side(end)
     check_index(index)
-    length = line_length(posts)
-    gain = place
-    level = count_right(posts)
-    if end == "L":
-        # Seen from behind the line, the walkers leave at "R".
-        gain = length - place
-        level = length - 1 - level
-    return (length * (index + 1) - level - 1) // gain
+    return leaver_index(line_length(posts), count_right(posts), place, end, index)
+
+
+def leaver_index(length, right, place, end, index):
+    """Return what `nth_leaver` returns for posts of this length with so many right posts."""
+    if end == "R":
+        return (length * (index + 1) - right - 1) // place
+    # Seen from behind the line, the walkers leave at "R".
+    return leaver_index(length, length - 1 - right, length - place, "R", index)
 
 
 def is_settled(posts):
@@ -40,20 +41,17 @@ def is_settled(posts):
     return len(unsettled_bounds(posts)) == 0
 
 
-def walkers_to_swing(posts, place, end, many):
-    """Return the least number of walkers from the place of whom those that leave at the end swing so many posts."""
-    each = place if end == "L" else line_length(posts) - place
-    return nth_leaver(posts, place, end, (many - 1) // each) + 1
-
-
 def walkers_to_settle(posts, place):
     """Return the least number of walkers from the place after which the posts are settled."""
     check_place(posts, place)
+    length = line_length(posts)
+    right = count_right(posts)
     walkers = 0
     for to_right, to_left in unsettled_bounds(posts):
-        by_left = walkers_to_swing(posts, place, "L", to_right)
-        by_right = walkers_to_swing(posts, place, "R", to_left)
-        walkers = max(walkers, min(by_left, by_right))
+        # A walker that leaves at "L" swings `place` posts, and one that leaves at "R" swings `length - place`.
+        by_left = leaver_index(length, right, place, "L", (to_right - 1) // place)
+        by_right = leaver_index(length, right, place, "R", (to_left - 1) // (length - place))
+        walkers = max(walkers, min(by_left, by_right) + 1)
     return walkers
 
 

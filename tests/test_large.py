@@ -6,8 +6,16 @@ step by step for k = 1, 2, 3 tell what the answer must be for any k.
 
 import unittest
 
+from swingposts.before import can_be_before
+from swingposts.crowds import after_crowd, crowd_steps
 from swingposts.errors import InvalidPlace
+from swingposts.live import LiveLine
+from swingposts.pairs import equal_after, place_to_merge, same_exits
+from swingposts.paths import count_visits, farthest, path, place_after
 from swingposts.posts import count_right, is_posts, line_length, place_of, side_at, sum_right
+from swingposts.reaching import can_become, count_reachable, nth_reachable, reachable, walkers_to, why_not_become
+from swingposts.streams import is_settled, nth_exit, nth_leaver, walkers_to_settle
+from swingposts.texts import format_posts, parse_posts
 from swingposts.walks import count_steps, exit_end, named_ends, posts_after, walked
 
 from tests.helpers import (
@@ -94,6 +102,27 @@ class LongLines(ErrorCase):
         self.assertEqual(list(named_ends(long, **{f"w{at}": place for at, place in enumerate(places)}).values()), ends)
         moved = sum(places) + count_right(long) - count_right(after)
         self.assertEqual(moved, ends.count("R") * length)
+
+    def test_time_of_all_functions_at_thousands_of_runs(self):
+        many = (("L", 10 ** 30), ("R", 10 ** 30)) * 4000
+        length, goal = line_length(many), nth_reachable(many, count_reachable(many) // 2)
+        place, index = length // 2, 10 ** 60
+        calls = (
+            (exit_end, place), (posts_after, place), (count_steps, place), (walked, 1, place, length - 1),
+            (place_after, place, index), (count_visits, place, 1), (farthest, place), (after_crowd, [(place, index)]),
+            (crowd_steps, [(place, index)]), (nth_exit, place, index), (nth_leaver, place, "L", index), (is_settled,),
+            (walkers_to_settle, place), (can_become, goal), (walkers_to, goal), (why_not_become, goal),
+            (count_reachable,), (nth_reachable, index), (can_be_before, place), (same_exits, goal),
+            (equal_after, goal, [(place, index)]), (place_to_merge, goal), (format_posts,), (LiveLine,),
+        )
+        for function, *rest in calls:
+            with time_limit(5):
+                function(many, *rest)
+        with time_limit(5):
+            self.assertEqual(parse_posts(format_posts(many)), many)
+            self.assertEqual(next(reachable(many)), many)
+            self.assertEqual(next(path(many, place)), place)
+            self.assertEqual(why_not_become(goal, many), (1, 10 ** 30 + 1))
 
     def test_a_thousand_runs(self):
         many = longer((("L", 1), ("R", 2)) * 500, TIMES)

@@ -1,16 +1,17 @@
 """Points [18] and [19]: walkers that start one after another from one place."""
 
+import random
 import unittest
 
 from swingposts.crowds import after_crowd, crowd_steps
 from swingposts.errors import InvalidNumber, InvalidPlace, InvalidPosts, InvalidSide, NotSettled
 from swingposts.posts import line_length
 from swingposts.streams import is_settled, nth_exit, nth_leaver, period, walkers_to_settle
-from swingposts.walks import exit_end
+from swingposts.walks import exit_end, posts_after
 
 from tests.helpers import (
-    MIRRORED, SHORT, TIMES, ErrorCase, all_walks, let_walk, longer, small_lines, text_is_settled, time_limit, to_posts,
-    to_text,
+    MIRRORED, SHORT, TIMES, ErrorCase, all_walks, let_walk, longer, mirror_posts, small_lines, text_is_settled,
+    time_limit, to_posts, to_text,
 )
 from tests.test_posts import LRL, NO_INDEXES, NO_PLACES, NO_POSTS, NO_SIDES
 
@@ -216,6 +217,37 @@ class Large(ErrorCase):
                 walkers = walkers_to_settle(posts, place)
                 self.assertIs(is_settled(after_crowd(posts, [(place, walkers)])[0]), True)
                 self.assertIs(is_settled(after_crowd(posts, [(place, walkers - 1)])[0]), False)
+
+    def test_walkers_to_settle_walk_by_walk(self):
+        # From these places each walker swings so many posts that few walkers are enough.
+        chance = random.Random(19)
+        lines = list(self.lines)
+        for sides in ("LR", "RL") * 8:
+            lines.append(tuple((sides[at % 2], chance.randint(10 ** 32, 10 ** 33 - 1)) for at in range(20)))
+        for posts in lines:
+            length = line_length(posts)
+            self.assertEqual(len(posts), 20)
+            for place in (length // 50, length // 7, length // 2, length // 2 + 1, length - length // 9,
+                          chance.randint(length // 40, length - length // 40)):
+                now, walkers = posts, 0
+                while any(side == "L" for side, count in now[:-1]):
+                    now = posts_after(now, place)
+                    walkers += 1
+                self.assertGreater(walkers, 0)
+                self.assertEqual(walkers_to_settle(posts, place), walkers)
+                self.assertEqual(walkers_to_settle(mirror_posts(posts), length - place), walkers)
+
+    def test_time_grows_with_the_number_of_runs_alone(self):
+        # Thousands of runs are no trouble; a time that grows with their square would be minutes.
+        with time_limit(10):
+            for posts in ((("L", 10 ** 30), ("R", 10 ** 30)) * 4000, (("R", 3), ("L", 10 ** 30)) * 4000):
+                length = line_length(posts)
+                for place in (1, 10 ** 30, length // 2, length - 1):
+                    walkers = walkers_to_settle(posts, place)
+                    self.assertIs(is_settled(after_crowd(posts, [(place, walkers)])[0]), True)
+                    self.assertIs(is_settled(after_crowd(posts, [(place, walkers - 1)])[0]), False)
+                    nth_exit(posts, place, 10 ** 79)
+                    nth_leaver(posts, place, "L", 10 ** 79)
 
     def test_walkers_to_settle_one_at_a_time(self):
         # From place 1 all walkers leave at "L" until no post that points left stands before the last right ones.
